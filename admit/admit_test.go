@@ -346,3 +346,15 @@ func goesOn(t *testing.T, h admit.Hall) {
 		t.Fatalf("%v: %d held, somebody wants %t, can %t", h, held, wants, can)
 	}
 }
+
+func TestP11_2_SpareRoomIsLeft(t *testing.T) {
+	h := hall(3, 3, c(1, 3, 0), c(2, 2, 0), q(3, 2), q(4, 1))
+	h.Clients = append(make([]bank.Client, 0, 9), h.Clients...)
+	h.Queue = append(make([]admit.Ticket, 0, 9), h.Queue...)
+	begin(t, h, 5, 1, false)
+	end(t, h, 3, 4)
+	end(t, h, 1, 3, 4)
+	if h.Clients[:3][2] != (bank.Client{}) || h.Queue[:3][2] != (admit.Ticket{}) {
+		t.Errorf("something is written behind what was handed in: %v", h)
+	}
+}

@@ -94,9 +94,19 @@ func TestP14_1_MarkRefuses(t *testing.T) {
 		refused(l, 1, now)
 		refused(l, 3, now)
 	}
+	for _, page := range []int{1, 3} {
+		refused(of([2]int{3, 5}), page, 4)
+	}
 	for _, page := range []int{1, 3, 4} {
 		refused(l, page, 8)
 		refused(l, page, 0)
+	}
+}
+
+func TestP14_1_SpareRoomIsLeft(t *testing.T) {
+	l := append(make([]dirty.Item, 0, 9), of([2]int{3, 5})...)
+	if _, err := dirty.Mark(l, 4, 9); err != api.OK || l[:2][1] != (dirty.Item{}) {
+		t.Errorf("a Mark writes behind what it was handed: %v", l[:2])
 	}
 }
 

@@ -247,3 +247,13 @@ func TestP3_3_WhatIsLost(t *testing.T) {
 		t.Errorf("Read behind a crash that keeps nothing: %v %d", s, err)
 	}
 }
+
+func TestP3_2_PutLeavesSpareRoom(t *testing.T) {
+	d := fresh(t, 2)
+	d.Cache = append(make([]api.Write, 0, 9), api.Write{At: 1, Data: data(1)})
+	put(t, d, 0, data(2))
+	disk.Sync(d)
+	if spare := d.Cache[:2][1]; spare != (api.Write{}) {
+		t.Errorf("a Put writes behind what it was handed: %v", spare)
+	}
+}

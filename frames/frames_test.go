@@ -142,7 +142,9 @@ func wrong(t *testing.T) []frames.Frames {
 		change(&f)
 		l = append(l, f)
 	}
-	return l
+	torn := fresh(t, 2)
+	torn.Table.Slots = torn.Table.Slots[:15]
+	return append(l, torn)
 }
 
 func TestP15_1_New(t *testing.T) {

@@ -276,3 +276,15 @@ func TestP8_3_Example(t *testing.T) {
 	is(t, l, alone(3, reads(4)))
 	is(t, drop(t, l, 3, 4), shared([]int{4}))
 }
+
+func TestP8_1_SpareRoomIsLeft(t *testing.T) {
+	l := shared(append(make([]int, 0, 9), 4, 7), append(make([]latch.Wait, 0, 9), writes(5), reads(6), reads(3))...)
+	ask(t, l, 8, false, false)
+	drop(t, l, 5, 6, 3)
+	open := shared(l.Holders)
+	ask(t, open, 5, false, true)
+	drop(t, open, 4)
+	if l.Holders[:3][2] != 0 || l.Queue[:4][3] != (latch.Wait{}) || !slices.Equal(l.Holders, []int{4, 7}) {
+		t.Errorf("something is written behind what was handed in: %v", l)
+	}
+}

@@ -441,29 +441,49 @@ func TestP19_2_Pages(t *testing.T) {
 	}
 }
 
+func TestP19_2_AllPages(t *testing.T) {
+	var list []ops.Op
+	var want []api.Page
+	for id := 1; id <= 16; id++ {
+		list = append(list, op(ops.New, id), writes(id, "a"))
+		want = append(want, of(id, 2, "a"))
+	}
+	m := start(t, newDisk(t), 2, list)
+	for m.Left(0) > 0 {
+		m.Step(0)
+	}
+	if got := m.Pages(); !slices.Equal(got.Pages, want) {
+		t.Errorf("Pages: %v", got)
+	}
+}
+
 func TestP19_2_NewMemory(t *testing.T) {
 	d := newDisk(t, of(2, 1, "a"))
-	list := []ops.Op{op(ops.Read, 2), op(ops.New, 3)}
-	m := start(t, d, 2, list, []ops.Op{op(ops.New, 4)})
+	list := []ops.Op{op(ops.Read, 2), op(ops.New, 3), op(ops.Read, 2)}
+	m := start(t, d, 1, list, []ops.Op{op(ops.New, 4)}, []ops.Op{op(ops.New, 5)})
 	for range 4 {
 		m.Step(0)
 	}
 	m.Pump()
 	m.Finish(0, false)
-	for range 3 {
+	for range 8 {
 		m.Step(0)
-		m.Step(1)
+	}
+	for who := range 3 {
+		m.Step(who)
 	}
 	was := fmt.Sprint(m.Pool(), m.Hall(), m.History(), m.Pages())
 	m.History()[0].Who = 9
 	m.Pages().Pages[0].Id = 9
-	m.Hall().Clients[0].Held = 9
+	h := m.Hall()
+	h.Clients[0].Held, h.Queue[0].Claim = 9, 9
 	p := m.Pool()
-	p.D.Sectors[0], p.F.Pages[0].Body, p.F.Clock.Frames[0].Pins, p.F.Table.Slots[2].Frame = "x", "y", 9, 9
+	p.F.Dirty[0].Since = 9
+	p.D.Sectors[0], p.F.Pages[0].Body, p.F.Clock.Frames[0].Pins, p.F.Table.Slots[3].Frame = "x", "y", 9, 9
 	if got := fmt.Sprint(m.Pool(), m.Hall(), m.History(), m.Pages()); got != was {
 		t.Errorf("what was told turns the machine: %s, not %s", got, was)
 	}
-	if !same(d, newDisk(t, of(2, 1, "a"))) || !slices.Equal(list, []ops.Op{op(ops.Read, 2), op(ops.New, 3)}) {
+	if !same(d, newDisk(t, of(2, 1, "a"))) || !slices.Equal(list, []ops.Op{op(ops.Read, 2), op(ops.New, 3), op(ops.Read, 2)}) {
 		t.Error("what was handed in was changed")
 	}
 }

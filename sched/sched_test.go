@@ -472,3 +472,18 @@ func TestP6_4_Example(t *testing.T) {
 		t.Errorf("told %d times, in flight %v", told, s.Out)
 	}
 }
+
+func TestP6_2_SpareRoomIsLeft(t *testing.T) {
+	s := pump(t, ask(t, fresh(t, 1), read(0, 1)))
+	s = ask(t, s, read(0, 2), read(0, 3))
+	s.Out = append(make([]sched.Job, 0, 9), s.Out...)
+	s.Dev.Flight = append(make([]device.Request, 0, 9), s.Dev.Flight...)
+	s.Jobs[0] = append(make([]sched.Job, 0, 9), s.Jobs[0]...)
+	s.Lanes.List[0].Costs = append(make([]int, 0, 9), s.Lanes.List[0].Costs...)
+	pump(t, s)
+	ask(t, s, read(0, 4))
+	done(t, s, 0, true)
+	if s.Out[:2][1] != (sched.Job{}) || s.Dev.Flight[:2][1] != (device.Request{}) || s.Jobs[0][:3][2] != (sched.Job{}) || s.Lanes.List[0].Costs[:3][2] != 0 {
+		t.Errorf("something is written behind what was handed in: %v", s)
+	}
+}
